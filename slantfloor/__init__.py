@@ -1,0 +1,1 @@
+"""Slantfloor: floors of slanted tiles, laid, flipped, braced and bent."""
