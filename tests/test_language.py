@@ -32,6 +32,17 @@ WORDS = re.compile(
 )
 
 
+UNUSED = set("""
+    register mro elements open input version_info with_traceback add_note attrgetter breakpoint builtins compile
+    copyright credits delattr dir eval exec exit gc getattr globals hasattr help id importlib license locals
+    methodcaller os quit setattr super sys type vars chr print
+""".split())
+# What is walked on the spot, and where.
+WALKED = set("zip enumerate reversed range".split())
+WALKED_METHODS = set("items keys values".split())
+WALKERS = set("list tuple dict sorted sum any all enumerate zip min max".split())
+
+
 def python_has(name):
     return any(hasattr(kind, name) for kind in (str, int, list, tuple, dict, set, bytes))
 
@@ -44,6 +55,49 @@ def bound_names(node):
     if isinstance(node, ast.Name) and isinstance(node.ctx, ast.Store):
         return [node.id]
     return []
+
+
+def names_of_the_top(tree):
+    found = imported(tree)
+    for node in tree.body:
+        if isinstance(node, (ast.FunctionDef, ast.ClassDef)):
+            found.append(node.name)
+        elif isinstance(node, ast.Assign):
+            found.append(node.targets[0].id)
+    return found
+
+
+def imported(tree):
+    rows = [node for node in tree.body if isinstance(node, ast.ImportFrom)]
+    return [name.asname or name.name for row in rows for name in row.names]
+
+
+def imports_and_classes(tree):
+    return imported(tree) + [node.name for node in tree.body if isinstance(node, ast.ClassDef)]
+
+
+def locals_of(tree):
+    found = []
+    for top in tree.body:
+        if isinstance(top, (ast.FunctionDef, ast.ClassDef)):
+            for node in ast.walk(top):
+                if node is not top and isinstance(node, (ast.arg, ast.Name)):
+                    found += bound_names(node)
+    return found
+
+
+def is_called(node, names):
+    return isinstance(node, ast.Call) and isinstance(node.func, ast.Name) and node.func.id in names
+
+
+def is_walked_value(node):
+    if is_called(node, WALKED):
+        return True
+    return isinstance(node, ast.Call) and isinstance(node.func, ast.Attribute) and node.func.attr in WALKED_METHODS
+
+
+def drawn_from(tree):
+    return [node.module.split(".")[-1] for node in tree.body if isinstance(node, ast.ImportFrom)]
 
 
 class TestLanguage(unittest.TestCase):
@@ -124,6 +178,100 @@ class TestLanguage(unittest.TestCase):
                 if name not in TWO_UNDERSCORES:
                     self.assertRegex(name, r"\A[A-Za-z][A-Za-z0-9_]*\Z")
         self.on_each_node(ast.AST, check)
+
+    def test_names_that_are_not_used(self):
+        self.on_each_node(ast.Name, lambda node: self.assertNotIn(node.id, UNUSED))
+
+    def test_no_local_is_called_like_another_thing(self):
+        def check(text):
+            tree = ast.parse(text)
+            taken = imports_and_classes(tree)
+            for name in locals_of(tree):
+                self.assertNotIn(name, taken)
+                self.assertFalse(hasattr(builtins, name), name)
+        self.on_each_file(check)
+
+    def test_each_name_of_the_top_once(self):
+        def check(text):
+            names = names_of_the_top(ast.parse(text))
+            self.assertEqual(len(set(names)), len(names))
+        self.on_each_file(check)
+
+    def test_is_stands_beside_plain_values(self):
+        def check(node):
+            for sign, right in zip(node.ops, node.comparators):
+                if isinstance(sign, (ast.Is, ast.IsNot)):
+                    self.assertIsInstance(right, ast.Constant)
+                    self.assertIn(right.value, (None, True, False))
+        self.on_each_node(ast.Compare, check)
+
+    def test_walked_on_the_spot(self):
+        def check(text):
+            tree = ast.parse(text)
+            fine = set()
+            for node in ast.walk(tree):
+                if isinstance(node, (ast.For, ast.comprehension)):
+                    fine.add(node.iter)
+                if is_called(node, WALKERS) and node.args:
+                    fine.update(node.args if node.func.id == "zip" else node.args[:1])
+            for node in ast.walk(tree):
+                if is_walked_value(node):
+                    self.assertIn(node, fine, node.lineno)
+        self.on_each_file(check)
+
+    def test_no_kept_sets(self):
+        self.on_each_node(ast.Call, lambda node: self.assertFalse(is_called(node, {"set", "frozenset"})))
+        self.on_each_node(ast.Set, lambda node: self.fail("a set written out"))
+
+    def test_texts_and_powers(self):
+        def check_text(node):
+            if isinstance(node.value, str):
+                self.assertNotIn("%", node.value)
+        self.on_each_node(ast.Constant, check_text)
+
+        def check_power(node):
+            if isinstance(node.op, ast.Pow):
+                self.assertIsInstance(node.right, ast.Constant)
+        self.on_each_node(ast.BinOp, check_power)
+
+    def test_plain_words_in_braces(self):
+        self.on_each_node(ast.FormattedValue, lambda node: self.assertIsInstance(node.value, ast.Name))
+
+    def test_errors_are_taken_by_own_names(self):
+        def check(node):
+            self.assertIsInstance(node.type, ast.Name)
+            self.assertRegex(node.type.id, r"\A(No[A-Z][a-z]+|TooMany|SlantError|KeyError|ZeroDivisionError)\Z")
+        self.on_each_node(ast.ExceptHandler, check)
+
+    def test_no_two_files_draw_from_one_another(self):
+        files = {path.stem: ast.parse(path.read_text(encoding="utf-8")) for path in PACKAGE.glob("*.py")}
+        drawn = {name: set(drawn_from(tree)) for name, tree in files.items()}
+        self.assertEqual(drawn["__init__"], set())
+        while drawn:
+            done = {name for name in drawn if not drawn[name]}
+            self.assertTrue(done, drawn)
+            drawn = {name: drawn[name] - done for name in drawn if name not in done}
+
+    def test_names_are_drawn_from_where_they_are_defined(self):
+        files = {path.stem: ast.parse(path.read_text(encoding="utf-8")) for path in PACKAGE.glob("*.py")}
+        for tree in files.values():
+            for node in tree.body:
+                if isinstance(node, ast.ImportFrom):
+                    source = files[node.module.split(".")[-1]]
+                    own = [name for name in names_of_the_top(source) if name not in imported(source)]
+                    for name in node.names:
+                        self.assertIn(name.name, own)
+
+    def test_no_name_is_a_method_and_a_value(self):
+        methods, values = set(), set()
+        for path in sorted(PACKAGE.glob("*.py")):
+            for node in ast.walk(ast.parse(path.read_text(encoding="utf-8"))):
+                if isinstance(node, ast.ClassDef):
+                    methods.update(part.name for part in node.body if isinstance(part, ast.FunctionDef))
+                if isinstance(node, ast.Attribute) and isinstance(node.ctx, ast.Store):
+                    values.add(node.attr)
+        self.assertEqual(methods & values, set())
+        self.assertFalse([name for name in values if python_has(name)])
 
 
 if __name__ == "__main__":
