@@ -10,6 +10,17 @@ def corner(sides, below):
     return (x, y)
 
 
+def with_band(below, band):
+    return tuple(sorted(below + (band,)))
+
+
+def belows(floor):
+    told = {}
+    for a, b, below in floor:
+        told[(a, b)] = below
+    return told
+
+
 def tile_at(path, p):
     return (path[p], path[p + 1], tuple(sorted(path[:p])))
 
