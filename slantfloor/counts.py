@@ -31,7 +31,7 @@ def place_of_pivot(table, column):
 
 
 def cleared(numbers, pivot, column, divisor):
-    """The numbers of a list behind the column, once the pivot's list has been taken away from it."""
+    """A new list: the numbers behind the column once the pivot's list is taken away from them."""
     told = list(numbers)
     for place in range(column + 1, len(numbers)):
         told[place] = (pivot[column] * numbers[place] - numbers[column] * pivot[place]) // divisor
@@ -40,7 +40,7 @@ def cleared(numbers, pivot, column, divisor):
 
 def determinant(rows):
     # All numbers stay whole: divided by the pivot ahead, each is the determinant of a part of the lists.
-    table = [list(numbers) for numbers in rows]
+    table = list(rows)
     sign = 1
     divisor = 1
     for column in range(len(table)):
